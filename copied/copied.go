@@ -15,7 +15,7 @@ func Write(w api.Write) api.Write {
 
 // Writes returns copies of the writes of a list.
 func Writes(l []api.Write) []api.Write {
-	return all(l, Write)
+	return All(l, Write)
 }
 
 // Cycle returns a copy of a cycle.
@@ -26,11 +26,11 @@ func Cycle(c api.Cycle) api.Cycle {
 
 // Cycles returns copies of the cycles of a list.
 func Cycles(l []api.Cycle) []api.Cycle {
-	return all(l, Cycle)
+	return All(l, Cycle)
 }
 
-// all returns what a function makes of each element of a list.
-func all[T any](l []T, one func(T) T) []T {
+// All returns what a function that copies an element makes of each element of a list.
+func All[T any](l []T, one func(T) T) []T {
 	copies := slices.Clone(l)
 	for i, x := range copies {
 		copies[i] = one(x)

@@ -2,6 +2,7 @@ package copied_test
 
 import (
 	"reflect"
+	"slices"
 	"testing"
 
 	"standby/api"
@@ -70,5 +71,17 @@ func TestCopiesOfNothing(t *testing.T) {
 	}
 	if len(copied.Writes(nil)) > 0 || len(copied.Cycles(nil)) > 0 {
 		t.Error("got copies of nothing")
+	}
+}
+
+func TestAll(t *testing.T) {
+	l := [][]byte{{1, 2}, nil, {3}, {4}}
+	got := copied.All(l[:3], slices.Clone)
+	if !reflect.DeepEqual(got, [][]byte{{1, 2}, nil, {3}}) || copied.All([][]byte(nil), slices.Clone) != nil {
+		t.Errorf("got %v", got)
+	}
+	l[0][1], l[2] = 9, nil
+	if got[0][1] != 2 || got[2] == nil {
+		t.Errorf("a copy after a change of the list: %v", got)
 	}
 }
